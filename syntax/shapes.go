@@ -24,6 +24,13 @@ func newShapes() shapes {
 	return s
 }
 
+// newExpressionShapes returns the shapes of expressions alone: these are asked for often.
+func newExpressionShapes() shapes {
+	s := shapes{}
+	s.addExpressions()
+	return s
+}
+
 func (s shapes) addDeclarations() {
 	columns := s.of(api.NodeColumns)
 	values := s.of(api.NodeRange)
