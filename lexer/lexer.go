@@ -35,7 +35,7 @@ func Kind(word string) int {
 	switch {
 	case token.At != 0 || token.End != len(word):
 		return api.TokenEnd
-	case token.Kind == api.TokenName && keywords()[word]:
+	case token.Kind == api.TokenName && isKeyword(word):
 		return api.TokenKeyword
 	}
 	return token.Kind

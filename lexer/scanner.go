@@ -134,14 +134,16 @@ func isLetter(c byte) bool   { return c >= 'a' && c <= 'z' }
 func isDigit(c byte) bool    { return c >= '0' && c <= '9' }
 func isNamePart(c byte) bool { return isLetter(c) || isDigit(c) || c == '_' }
 
+// keywordList contains all keywords, each between two blanks.
+const keywordList = " sort relation counter set register invariant operation key reference to count acyclic all sum in addwins removewins last multi hide ordered require hold insert delete add from put drop assign for where and or not "
+
+// isKeyword reports whether a name is a keyword. For a single one this is less work than the table of them.
+func isKeyword(name string) bool { return strings.Contains(keywordList, " "+name+" ") }
+
 func keywords() map[string]bool {
-	return map[string]bool{
-		"sort": true, "relation": true, "counter": true, "set": true, "register": true,
-		"invariant": true, "operation": true,
-		"key": true, "reference": true, "to": true, "count": true, "acyclic": true, "all": true, "sum": true, "in": true,
-		"addwins": true, "removewins": true, "last": true, "multi": true, "hide": true, "ordered": true,
-		"require": true, "hold": true, "insert": true, "delete": true, "add": true, "from": true,
-		"put": true, "drop": true, "assign": true, "for": true, "where": true,
-		"and": true, "or": true, "not": true,
+	known := map[string]bool{}
+	for _, word := range strings.Fields(keywordList) {
+		known[word] = true
 	}
+	return known
 }
