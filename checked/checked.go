@@ -1,4 +1,5 @@
-package instance
+// Package checked is no layer: it recognizes the checked programs, for the layers that compute with these alone.
+package checked
 
 import (
 	"slices"
@@ -7,8 +8,8 @@ import (
 	"confluent/checker"
 )
 
-// checked reports whether a program is the one that checker.Tree returns for its tree.
-func checked(p api.Program) bool {
+// Program reports whether a program is the one that checker.Tree returns for its tree.
+func Program(p api.Program) bool {
 	q, wrong, e := checker.Tree(p.Tree)
 	return e == api.OK && len(wrong) == 0 &&
 		slices.Equal(p.Sorts, q.Sorts) && slices.Equal(p.Invariants, q.Invariants) &&
