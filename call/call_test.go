@@ -102,3 +102,39 @@ func TestReadExamples(t *testing.T) {
 		}
 	}
 }
+
+func TestReader(t *testing.T) {
+	r := call.NewReader("c(1,\n02) = - 3 ; o(-1) 7 x # end")
+	if name, values, ok := r.Numbers(); name != "c" || !slices.Equal(values, []int{1, 2}) || !ok || r.Done() {
+		t.Error(name, values, ok)
+	}
+	if r.Take(";") || r.Take("") || !r.Take("=") || r.Take("=") {
+		t.Error("words are taken that are not next")
+	}
+	if value, ok := r.Integer(); value != -3 || !ok || !r.Take(";") {
+		t.Error(value, ok)
+	}
+	if name, values, ok := r.Integers(); name != "o" || !slices.Equal(values, []int{-1}) || !ok {
+		t.Error(name, values, ok)
+	}
+	if value, ok := r.Integer(); value != 7 || !ok || r.Done() {
+		t.Error(value, ok)
+	}
+	if value, ok := r.Integer(); value != 0 || ok || !r.Done() {
+		t.Error(value, ok)
+	}
+	if name, values, ok := r.Numbers(); name != "" || len(values) > 0 || ok || r.Take("") || r.Take("x") {
+		t.Error(name, values, ok)
+	}
+	if _, ok := r.Integer(); ok || !call.NewReader("").Done() || !call.NewReader(" # nothing").Done() {
+		t.Error("something is read behind the end")
+	}
+}
+
+func TestReaderNumbers(t *testing.T) {
+	for text, want := range map[string]string{"12345": "10000 true", "-12345": "-10000 true", "- 9999": "-9999 true", "0007": "7 true", "-": "0 false", "x": "0 false", "--1": "0 false", "": "0 false", ".": "0 false"} {
+		if value, ok := call.NewReader(text).Integer(); fmt.Sprint(value, ok) != want {
+			t.Errorf("%q: %d %v", text, value, ok)
+		}
+	}
+}

@@ -6,6 +6,7 @@ import (
 	"confluent/api"
 	"confluent/checker"
 	"confluent/lexer"
+	"confluent/table"
 )
 
 // layout is a list of sizes of sorts and a list of tables over them.
@@ -20,10 +21,10 @@ func (l layout) valid() bool {
 	}
 	count := map[bool]int{}
 	for i, t := range l.tables {
-		if !l.validTable(t) || !l.validName(i) || t.First != count[strict(t)] {
+		if !l.validTable(t) || !l.validName(i) || t.First != count[table.Strict(t)] {
 			return false
 		}
-		count[strict(t)] += l.area(t)
+		count[table.Strict(t)] += l.area(t)
 	}
 	return count[true] <= api.MaxCells && count[false] <= api.MaxMerged
 }
@@ -68,15 +69,11 @@ func validRange(t api.Table) bool {
 	return false
 }
 
-func strict(t api.Table) bool {
-	return t.Kind == api.TableRelation || t.Kind == api.TableCounter
-}
-
 // all returns an iterator over the strict cells of a valid layout, or the convergent ones, in order: the index of the table and the tuple of each. The tuples of a table are one list, which changes from step to step.
 func (l layout) all(isStrict bool) iter.Seq2[int, []int] {
 	return func(yield func(int, []int) bool) {
 		for i, t := range l.tables {
-			if strict(t) != isStrict {
+			if table.Strict(t) != isStrict {
 				continue
 			}
 			for tuple := range tuples(l.lengths(t.Columns)...) {

@@ -1,4 +1,4 @@
-// Package checked is no layer: it recognizes the checked programs, for the layers that compute with these alone.
+// Package checked is no layer: it recognizes the checked programs, for the layers that compute with these alone, and finds the columns that they name.
 package checked
 
 import (
@@ -14,6 +14,15 @@ func Program(p api.Program) bool {
 	return e == api.OK && len(wrong) == 0 &&
 		slices.Equal(p.Sorts, q.Sorts) && slices.Equal(p.Invariants, q.Invariants) &&
 		slices.EqualFunc(p.Tables, q.Tables, equalTables) && slices.EqualFunc(p.Procedures, q.Procedures, equalProcedures)
+}
+
+// Column returns the position of the column with a name in a table of a checked program. No other declaration on the outermost level has the name of the table.
+func Column(p api.Program, table, name string) int {
+	named := func(name string) func(n api.Node) bool {
+		return func(n api.Node) bool { return n.Text == name }
+	}
+	declaration := p.Tree.Kids[slices.IndexFunc(p.Tree.Kids, named(table))]
+	return slices.IndexFunc(declaration.Kids[0].Kids, named(name))
 }
 
 func equalTables(a, b api.Table) bool {

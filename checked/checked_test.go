@@ -64,3 +64,18 @@ func TestP1Program(t *testing.T) {
 		t.Error("an equal program is not recognized")
 	}
 }
+
+func TestP12_1AndP13_1Column(t *testing.T) {
+	p, wrong, e := checker.Check("invariant b: key r(); sort a 2; relation q(b: a, a: a); counter c(b: a) in 0..9; relation r(x: a, b: a, q: a); operation o() { }")
+	if e != api.OK || len(wrong) > 0 {
+		t.Fatal(wrong, e)
+	}
+	for i, c := range []struct {
+		table, name string
+		want        int
+	}{{"q", "b", 0}, {"q", "a", 1}, {"c", "b", 0}, {"r", "x", 0}, {"r", "b", 1}, {"r", "q", 2}} {
+		if got := checked.Column(p, c.table, c.name); got != c.want {
+			t.Errorf("%d: %d", i, got)
+		}
+	}
+}

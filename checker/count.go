@@ -2,6 +2,7 @@ package checker
 
 import (
 	"confluent/api"
+	"confluent/table"
 )
 
 // enough is what counts and products are cut to: it is greater than all limits.
@@ -48,15 +49,11 @@ func (w *work) tuples(columns []int) int {
 func (w *work) cells(tables int, isStrict bool) int {
 	count := 0
 	for _, t := range w.program.Tables[:tables] {
-		if strict(t) == isStrict {
+		if table.Strict(t) == isStrict {
 			count = plus(count, w.tuples(t.Columns))
 		}
 	}
 	return count
-}
-
-func strict(t api.Table) bool {
-	return t.Kind == api.TableRelation || t.Kind == api.TableCounter
 }
 
 // constraints returns how many constraints the strict tables and the first invariants have.

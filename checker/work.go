@@ -8,6 +8,7 @@ import (
 	"confluent/api"
 	"confluent/lexer"
 	"confluent/syntax"
+	"confluent/table"
 )
 
 // spot is a node with its number and its Kids.
@@ -81,7 +82,7 @@ func (w *work) declareTable(s *spot) {
 	if len(s.kids) > 1 && s.kids[1].Kind == api.NodeRange {
 		t.Range = interval(s.kids[1])
 	}
-	t.First = w.cells(len(w.program.Tables), strict(t))
+	t.First = w.cells(len(w.program.Tables), table.Strict(t))
 	w.indices[s.number] = len(w.program.Tables)
 	w.program.Tables = append(w.program.Tables, t)
 }

@@ -6,6 +6,7 @@ import (
 
 	"confluent/api"
 	"confluent/cells"
+	"confluent/checked"
 	"confluent/checker"
 	"confluent/effect"
 	"confluent/row"
@@ -19,10 +20,6 @@ type declarations struct {
 }
 
 func newDeclarations(p api.Program) declarations { return declarations{p, cells.Sizes(p.Sorts)} }
-
-func isStrict(t api.Table) bool {
-	return t.Kind == api.TableRelation || t.Kind == api.TableCounter
-}
 
 // ranges returns the constraints of a strict table.
 func (d declarations) ranges(t api.Table) []api.Constraint {
@@ -86,7 +83,7 @@ func (d declarations) reference(n api.Node, _ int) []api.Constraint {
 		return nil
 	}
 	relation, target := d.table(n.Text), d.table(n.Kids[1].Text)
-	column := d.column(n.Text, n.Kids[0].Text)
+	column := checked.Column(d.program, n.Text, n.Kids[0].Text)
 	var all []api.Constraint
 	for i, tuple := range d.tuples(relation.Columns) {
 		terms := effect.Collect([]api.Term{{Cell: relation.First + i, Factor: 1}, {Cell: target.First + tuple[column], Factor: -1}})
@@ -133,18 +130,10 @@ func (d declarations) table(name string) api.Table {
 	return d.program.Tables[index]
 }
 
-// column returns the position of a column of a table. No other declaration on the outermost level has the name of the table.
-func (d declarations) column(table, name string) int {
-	kids := d.program.Tree.Kids
-	declared := slices.IndexFunc(kids, func(n api.Node) bool { return n.Text == table })
-	columns := kids[declared].Kids[0].Kids
-	return slices.IndexFunc(columns, func(n api.Node) bool { return n.Text == name })
-}
-
 // named returns the positions and the sorts of the columns that a NodeKey or a NodeCount names.
 func (d declarations) named(n api.Node) (positions, sorts []int) {
 	for _, name := range n.Kids[0].Kids {
-		position := d.column(n.Text, name.Text)
+		position := checked.Column(d.program, n.Text, name.Text)
 		positions = append(positions, position)
 		sorts = append(sorts, d.table(n.Text).Columns[position])
 	}

@@ -7,6 +7,7 @@ import (
 
 	"confluent/api"
 	"confluent/cells"
+	"confluent/table"
 )
 
 // rowWords returns the words of a row, or the empty string if a cell of it is no strict cell.
@@ -50,8 +51,7 @@ func factor(f int) string {
 // graphWords returns the words of a graph, or the empty string if it is that of no relation.
 func (d declarations) graphWords(c api.Constraint) string {
 	i := slices.IndexFunc(d.program.Tables, func(t api.Table) bool {
-		square := t.Kind == api.TableRelation && len(t.Columns) == 2 && t.Columns[0] == t.Columns[1]
-		return square && t.First == c.First && d.sizes[t.Columns[0]] == c.Size
+		return table.Square(t) && t.First == c.First && d.sizes[t.Columns[0]] == c.Size
 	})
 	if i < 0 {
 		return ""
