@@ -91,9 +91,7 @@ func (x *examination) validConstraint(c api.Constraint) bool {
 }
 
 func (x *examination) validGraph(c api.Constraint) bool {
-	return slices.ContainsFunc(x.Tables, func(t api.Table) bool {
-		return table.Square(t) && t.First == c.First && x.Sorts[t.Columns[0]] == c.Size
-	})
+	return slices.ContainsFunc(x.Tables, func(t api.Table) bool { return table.Graph(t, x.Sorts, c) })
 }
 
 func (x *examination) validRow(r api.Row) bool {

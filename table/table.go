@@ -24,3 +24,8 @@ func Register(t api.Table) bool {
 func Square(t api.Table) bool {
 	return t.Kind == api.TableRelation && len(t.Columns) == 2 && t.Columns[0] == t.Columns[1]
 }
+
+// Graph reports whether the cells of a graph are those of a table over sizes of sorts.
+func Graph(t api.Table, sizes []int, c api.Constraint) bool {
+	return Square(t) && t.First == c.First && sizes[t.Columns[0]] == c.Size
+}

@@ -34,3 +34,20 @@ func TestP12_4AndP13_2Square(t *testing.T) {
 		}
 	}
 }
+
+func TestP12_4AndP13_2Graph(t *testing.T) {
+	sizes := []int{2, 3}
+	e := api.Table{Kind: api.TableRelation, Columns: []int{1, 1}, First: 8}
+	for i, c := range []struct {
+		first, size int
+		columns     []int
+		want        bool
+	}{
+		{8, 3, []int{1, 1}, true}, {8, 2, []int{0, 0}, true}, {8, 2, []int{1, 1}, false}, {7, 3, []int{1, 1}, false}, {9, 3, []int{1, 1}, false}, {8, 3, []int{0, 0}, false}, {8, 3, []int{1}, false}, {8, 3, []int{0, 1}, false}, {8, 3, nil, false},
+	} {
+		e.Columns = c.columns
+		if got := table.Graph(e, sizes, api.Constraint{Kind: api.ConstraintAcyclic, First: c.first, Size: c.size}); got != c.want {
+			t.Errorf("%d: %v", i, got)
+		}
+	}
+}
